@@ -1,0 +1,1 @@
+"""Onelook: a sheet whose cells are looked at once."""
