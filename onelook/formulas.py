@@ -36,12 +36,20 @@ PART_COUNTS = {
 }
 
 
+def part_many(word):
+    return PART_COUNTS[word]
+
+
+def has_area(word):
+    return word in AREA_WORDS
+
+
 def parts_of(formula):
-    return formula[1:1 + PART_COUNTS[formula[0]]]
+    return formula[1:1 + part_many(formula[0])]
 
 
 def tail_of(formula):
-    return formula[1 + PART_COUNTS[formula[0]]:]
+    return formula[1 + part_many(formula[0]):]
 
 
 def is_whole(thing):
@@ -76,7 +84,7 @@ def is_tail(word, tail):
         return len(tail) == 1 and is_text(tail[0])
     if word == "at":
         return len(tail) == 2 and is_number_row(tail[0], 2) and is_place(tail[0]) and are_pins(tail[1], 2)
-    if word in AREA_WORDS:
+    if has_area(word):
         return len(tail) == 2 and is_number_row(tail[0], 4) and is_area(tail[0]) and are_pins(tail[1], 4)
     return len(tail) == 0
 
@@ -89,7 +97,7 @@ def is_piece(thing):
     # Only a text is looked up: another entry may not bear to be a key.
     if not isinstance(word, str) or word not in PART_COUNTS:
         return False
-    return len(parts_of(thing)) == PART_COUNTS[word] and is_tail(word, tail_of(thing))
+    return len(parts_of(thing)) == part_many(word) and is_tail(word, tail_of(thing))
 
 
 def made_formula(formula):
@@ -140,5 +148,5 @@ def gather_named(formula, named):
     for part in parts_of(formula):
         gather_named(part, named)
     # Behind the parts: a find is written with its area last.
-    if formula[0] == "at" or formula[0] in AREA_WORDS:
+    if formula[0] == "at" or has_area(formula[0]):
         named[tail_of(formula)[0]] = True
