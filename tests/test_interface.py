@@ -1,0 +1,31 @@
+"""The interface: each name with its arguments, in the module where it is told."""
+
+import importlib
+import inspect
+import unittest
+
+INTERFACE = {
+    "places": {"made_place": "row column", "place_name": "place", "read_place": "text"},
+    "areas": {"made_area": "top left bottom right", "area_name": "area", "area_places": "area", "read_area": "text",
+              "within": "area place", "area_many": "area"},
+    "formulas": {"made_formula": "formula", "piece_many": "formula", "depth_of": "formula", "named_in": "formula"},
+    "formulatext": {"formula_text": "formula", "read_formula": "text"},
+    "worths": {"single": "word one", "paired": "op one other", "gathered": "word worths", "is_fault": "worth",
+               "same_worth": "one other"},
+    "looks": {"look_at": "formula worths waiting", "places_read": "reads"},
+    "sheets": {"made_sheet": "cells", "with_cells": "sheet changes", "formula_places": "sheet"},
+    "fresh": {"fresh_book": "sheet", "worths_by": "sheet book", "waiting_in": "book", "stands": "sheet book place"},
+}
+
+
+class Interface(unittest.TestCase):
+    def test_names_and_arguments(self):
+        for module, functions in INTERFACE.items():
+            found = importlib.import_module("onelook." + module)
+            for name, arguments in functions.items():
+                told = inspect.signature(getattr(found, name)).parameters
+                self.assertEqual(list(told), arguments.split(), (module, name))
+
+
+if __name__ == "__main__":
+    unittest.main()
