@@ -3,17 +3,29 @@
 from onelook.looks import look_at
 from onelook.sheets import formula_places, has_formula
 
+WAITS = ("waits",)
+
 
 def fresh_book(sheet):
-    places = formula_places(sheet)
-    waiting = {}
-    for place in places:
-        waiting[place] = True
     worths = worths_by(sheet, {})
+    waiting = all_waiting(sheet)
+    return settled_book(worths, waiting, lambda place: look_at(sheet[place], worths, waiting))
+
+
+def all_waiting(sheet):
+    waiting = {}
+    for place in formula_places(sheet):
+        waiting[place] = True
+    return waiting
+
+
+# At first all cells with formulas wait; tell(place) is what a look at one tells by the worths that there are.
+def settled_book(worths, waiting, tell):
+    places = sorted(waiting)
     entries = {}
     for place in places:
         if place not in entries:
-            settle(place, sheet, worths, waiting, entries)
+            settle(place, worths, waiting, entries, tell)
     book = {}
     for place in places:
         book[place] = entries[place]
@@ -22,11 +34,11 @@ def fresh_book(sheet):
 
 # Goes on to what a cell waits for and comes back: so each cell is looked at once more only
 # for a cell that is first asked for by it, not in round after round.
-def settle(place, sheet, worths, waiting, entries):
+def settle(place, worths, waiting, entries, tell):
     way = [place]
     while way:
         cell = way[-1]
-        entry = look_at(sheet[cell], worths, waiting)
+        entry = tell(cell)
         entries[cell] = entry
         if entry[0] == "worth":
             worths[cell] = entry[1]
@@ -57,4 +69,11 @@ def stands(sheet, book, place):
     if not has_formula(sheet, place):
         return sheet.get(place)
     entry = book[place]
-    return entry[1] if entry[0] == "worth" else ("waits",)
+    return entry[1] if entry[0] == "worth" else WAITS
+
+
+def standings(sheet, book):
+    told = {}
+    for place in sheet:
+        told[place] = stands(sheet, book, place)
+    return told

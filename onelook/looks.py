@@ -1,7 +1,8 @@
 """A look at a formula: its worth, or what it waits for, and what it has read."""
 
-from onelook.areas import places_between
-from onelook.formulas import parts_of
+from onelook.areas import is_area, places_between, within
+from onelook.formulas import is_number_row, parts_of
+from onelook.places import is_place
 from onelook.worths import fault, gathered, is_fault, paired, same_worth, single
 
 
@@ -126,3 +127,28 @@ def item_places(item):
     if item[0] == "at":
         return [item[1]]
     return [place for place in places_between(item[1]) if place <= item[2]]
+
+
+# Of a thing of any form: books that are still to be judged hold such things.
+def is_item(thing):
+    if not isinstance(thing, tuple):
+        return False
+    if thing[:1] == ("at",):
+        return len(thing) == 2 and is_number_row(thing[1], 2) and is_place(thing[1])
+    if thing[:1] == ("part",):
+        return len(thing) == 3 and is_part(thing[1], thing[2])
+    return False
+
+
+def is_part(area, place):
+    return is_number_row(area, 4) and is_area(area) and is_number_row(place, 2) and within(area, place)
+
+
+def reads_up_to(reads, place):
+    kept = []
+    for item in reads:
+        if place in item_places(item):
+            kept.append(("at", place) if item[0] == "at" else ("part", item[1], place))
+            return tuple(kept)
+        kept.append(item)
+    return tuple(kept)

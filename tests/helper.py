@@ -1,6 +1,10 @@
 """What several test files share."""
 
 from onelook import errors
+from onelook.formulas import piece_many
+from onelook.formulatext import read_formula
+from onelook.places import read_place
+from onelook.sheets import made_sheet
 
 
 class RefusalChecks:
@@ -80,3 +84,69 @@ def some_area(chance, places):
     if (bottom - top + 1) * (right - left + 1) > 300:
         bottom, right = top, left
     return ((top, left, bottom, right), tuple(chance.randrange(2) for _ in range(4)))
+
+
+def spot(name):
+    return read_place(name)
+
+
+def spots(names):
+    return [read_place(name) for name in names.split()]
+
+
+def content_by(told):
+    """A content as it is; a text that begins with = as the formula behind it."""
+    return read_formula(told[1:]) if isinstance(told, str) and told[:1] == "=" else told
+
+
+def cells_by(told):
+    """A dict from places to contents, of one from names."""
+    return {read_place(name): content_by(content) for name, content in told.items()}
+
+
+def sheet_by(told):
+    return made_sheet(list(cells_by(told).items()))
+
+
+def row_of(many, step):
+    """Cells that each read the one so many steps on in the row, as filled rows of the sheet."""
+    spots = [(number // 20, number % 20) for number in range(many)]
+    cells = []
+    for number, place in enumerate(spots):
+        if 0 <= number + step < many:
+            cells.append((place, ("+", at(*spots[number + step]), num(1))))
+        else:
+            cells.append((place, num(1)))
+    return spots, made_sheet(cells)
+
+
+SPOTS = tuple((row, column) for row in range(4) for column in range(4))
+
+
+def some_content(chance, places=SPOTS, deep=4):
+    """A number, a text or, mostly, a formula."""
+    if chance.randrange(7) == 0:
+        return chance.choice([0, 1, -3, 10 ** 60, "a", ""])
+    formula = some_formula(chance, chance.randrange(1, deep + 1), places)
+    return formula if piece_many(formula) <= 60 else num(1)
+
+
+def some_sheet(chance, places=SPOTS, deep=4):
+    """A sheet in which most of these places are filled."""
+    return made_sheet([(place, some_content(chance, places, deep)) for place in places if chance.randrange(8)])
+
+
+def some_changes(chance, sheet, places=SPOTS):
+    """Changes of some cells: cleared, put, put as they were, or put as the number that they had."""
+    changes = {}
+    for place in chance.sample(places, chance.choice([1, 1, 2, 5])):
+        kind = chance.randrange(5)
+        if kind == 0:
+            changes[place] = None
+        elif kind == 1:
+            changes[place] = sheet.get(place)
+        elif kind == 2:
+            changes[place] = chance.randrange(4)
+        else:
+            changes[place] = some_content(chance, places)
+    return changes

@@ -5,26 +5,13 @@ import random
 import unittest
 from unittest import mock
 
-from helper import LOOSE, at, num, some_formula
-from onelook.formulas import piece_many
+from helper import LOOSE, at, num, row_of, some_sheet
 from onelook.fresh import fresh_book, stands, waiting_in, worths_by
 from onelook.looks import look_at, places_read
 from onelook.sheets import formula_places, made_sheet
 
 KIND, NOUGHT, NONE, LOST = [("fault", word) for word in ("kind", "nought", "none", "lost")]
 WAITS = ("waits",)
-
-
-def row_of(many, step):
-    """Cells that each read the one so many steps on in the row, as filled rows of the sheet."""
-    spots = [(number // 20, number % 20) for number in range(many)]
-    cells = []
-    for number, place in enumerate(spots):
-        if 0 <= number + step < many:
-            cells.append((place, ("+", at(*spots[number + step]), num(1))))
-        else:
-            cells.append((place, num(1)))
-    return spots, made_sheet(cells)
 
 
 def book_by_few_looks(sheet):
@@ -49,19 +36,6 @@ def reckoned(sheet, chance):
                 waiting.remove(place)
                 gone_on = True
     return {place: look_at(sheet[place], worths, waiting) for place in sheet if isinstance(sheet[place], tuple)}
-
-
-def some_sheet(chance):
-    places = [(row, column) for row in range(4) for column in range(4)]
-    cells = []
-    for place in places:
-        kind = chance.randrange(8)
-        if kind == 0:
-            cells.append((place, chance.choice([0, 1, -3, 10 ** 60, "a", ""])))
-        elif kind > 1:
-            formula = some_formula(chance, chance.randrange(1, 5), places)
-            cells.append((place, formula if piece_many(formula) <= 60 else num(1)))
-    return made_sheet(cells)
 
 
 class Books(unittest.TestCase):

@@ -15,6 +15,10 @@ INTERFACE = {
     "looks": {"look_at": "formula worths waiting", "places_read": "reads"},
     "sheets": {"made_sheet": "cells", "with_cells": "sheet changes", "formula_places": "sheet"},
     "fresh": {"fresh_book": "sheet", "worths_by": "sheet book", "waiting_in": "book", "stands": "sheet book place"},
+    "judge": {"right_book": "sheet book", "round_read": "sheet book"},
+    "rings": {"rings_in": "book", "way_to_ring": "book place", "ranks_by": "sheet book"},
+    "waves": {"wave_of": "sheet book changes", "turned_places": "sheet book sheet_now book_now"},
+    "causes": {"touched": "sheet book sheet_now book_now", "right_wave": "sheet book changes book_now wave"},
 }
 
 

@@ -32,6 +32,8 @@ EXPRESSIONS = (
     ast.Name,
 )
 LOOSE_WALKS = set("zip enumerate reversed range items keys values".split())
+CHANGERS = set("append clear extend insert pop remove reverse setdefault update".split())
+COPIERS = set("list tuple dict sorted range".split())
 WALKERS = set("list tuple dict sorted sum any all enumerate zip min max join".split())
 
 
@@ -218,6 +220,26 @@ class Language(unittest.TestCase):
             for node in ast.walk(tree):
                 if isinstance(node, ast.Call) and called_name(node) in LOOSE_WALKS:
                     self.assertIn(node, walked, (name, node.lineno))
+
+    def test_what_is_walked_is_not_changed(self):
+        for name, tree in trees():
+            for node in ast.walk(tree):
+                # A list(..) of it is a copy; of an index alone what it stands behind is walked.
+                if isinstance(node, ast.For) and not (isinstance(node.iter, ast.Call) and called_name(node.iter) in COPIERS):
+                    walked = {inner.id for inner in ast.walk(node.iter) if isinstance(inner, ast.Name)}
+                    self.assertEqual(walked & set(changed_names(node.body)), set(), (name, node.lineno))
+
+
+def changed_names(body):
+    """What is changed there by a method or by an index, by its name."""
+    for node in [inner for statement in body for inner in ast.walk(statement)]:
+        changed = None
+        if isinstance(node, ast.Call) and isinstance(node.func, ast.Attribute) and node.func.attr in CHANGERS:
+            changed = node.func.value
+        elif isinstance(node, ast.Subscript) and isinstance(node.ctx, ast.Store):
+            changed = node.value
+        if isinstance(changed, ast.Name):
+            yield changed.id
 
 
 def called_name(call):
