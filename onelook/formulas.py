@@ -150,3 +150,16 @@ def gather_named(formula, named):
     # Behind the parts: a find is written with its area last.
     if formula[0] == "at" or has_area(formula[0]):
         named[tail_of(formula)[0]] = True
+
+
+# goes(word, spot, pins) is where a cell or an area goes; where it goes to None its piece is lost, a find's
+# f with it. Forms (tuples as formulas, of other numbers) are gone through likewise.
+def rebuilt(formula, goes):
+    word = formula[0]
+    tail = tail_of(formula)
+    if word == "at" or has_area(word):
+        spot = goes(word, tail[0], tail[1])
+        if spot is None:
+            return ("lost",)
+        tail = (spot, tail[1])
+    return (word,) + tuple([rebuilt(part, goes) for part in parts_of(formula)]) + tail

@@ -19,6 +19,11 @@ INTERFACE = {
     "rings": {"rings_in": "book", "way_to_ring": "book place", "ranks_by": "sheet book"},
     "waves": {"wave_of": "sheet book changes", "turned_places": "sheet book sheet_now book_now"},
     "causes": {"touched": "sheet book sheet_now book_now", "right_wave": "sheet book changes book_now wave"},
+    "shifts": {"made_shift": "way at many", "back_shift": "shift", "moved_place": "shift place", "moved_area": "shift area"},
+    "turned": {"turned": "shift formula", "shifted": "sheet shift"},
+    "carried": {"is_plain": "sheet shift", "carried": "book shift", "readied": "sheet shift", "shift_wave": "sheet book shift"},
+    "copies": {"copied": "formula here there", "block_changes": "sheet area place"},
+    "forms": {"form_of": "formula place", "formula_by": "form place", "alike": "one here other there", "heaps_of": "sheet"},
 }
 
 
