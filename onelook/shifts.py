@@ -21,7 +21,7 @@ def made_shift(way, at, many):
     lines = ROWS if way in ROW_WAYS else COLUMNS
     # Of lines taken out the last is one of the sheet; of lines put in there may be any many.
     last = at if way in IN_WAYS else at + many - 1
-    if at < 0 or many < 1 or at >= lines or last >= lines:
+    if at < 0 or many < 1 or last >= lines:
         raise BadCount("lines that are none")
     return (way, at, many)
 

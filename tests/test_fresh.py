@@ -159,6 +159,11 @@ class Rings(unittest.TestCase):
         for number, place in enumerate(spots):
             self.assertEqual(book[place], ("waits", spots[(number + 1) % 200], (("at", spots[(number + 1) % 200]),)))
 
+    def test_the_waiting_cells_are_told_ascending(self):
+        book = {place: ("waits", place, (("at", place),)) for place in ((5, 5), (0, 7), (98, 0), (0, 0))}
+        book[(3, 3)] = ("worth", 1, ())
+        self.assertEqual(waiting_in(book), [(0, 0), (0, 7), (5, 5), (98, 0)])
+
     def test_several_rings(self):
         sheet = made_sheet([((0, 0), at(0, 0)), ((0, 1), at(0, 2)), ((0, 2), at(0, 1)), ((0, 3), ("+", at(0, 2), at(0, 0))),
                             ((0, 4), ("else", at(0, 5), at(0, 0))), ((0, 5), ("lost",))])

@@ -157,6 +157,11 @@ class Gathers(Looks):
         self.worth(("sum", SQUARE, LOOSE), {A1: 1, B1: KIND, A2: GREAT}, KIND, (part(SQUARE, B1),))
         self.waits(("sum", SQUARE, LOOSE), {A1: 1}, [A2, B2], A2, (part(SQUARE, A2),))
 
+    def test_noughts_and_empty_texts_are_gone_past(self):
+        for worths in ({A1: 0, A3: 5}, {A1: "", A3: 5}, {A1: 0, A2: "", A3: 5}, {A2: 0, A3: 5}):
+            self.worth(("sum", COLUMN, LOOSE), worths, 5, (part(COLUMN, A3),))
+            self.worth(("greatest", COLUMN, LOOSE), worths, 5, (part(COLUMN, A3),))
+
     def test_one_cell(self):
         area = (0, 0, 0, 0)
         self.worth(("sum", area, LOOSE), {A1: 1}, 1, (part(area, A1),))
