@@ -24,6 +24,13 @@ INTERFACE = {
     "carried": {"is_plain": "sheet shift", "carried": "book shift", "readied": "sheet shift", "shift_wave": "sheet book shift"},
     "copies": {"copied": "formula here there", "block_changes": "sheet area place"},
     "forms": {"form_of": "formula place", "formula_by": "form place", "alike": "one here other there", "heaps_of": "sheet"},
+    "support": {"support_of": "book place", "agree": "sheet other places", "behind": "book place"},
+    "chains": {"chain": "book place cell", "causes_back": "book wave place"},
+    "tables": {"table_of": "worths waiting area", "column_of": "table head", "fitting": "table head op key",
+               "order_by": "table by", "right_order": "table by numbers", "rows_taken": "table numbers",
+               "put_table": "sheet place table"},
+    "groups": {"groups_by": "table head", "sums_by": "table head word other",
+               "sums_on": "table sums further head word other", "paired_rows": "table head further other"},
 }
 
 
