@@ -1,4 +1,4 @@
-"""The refusals: each one a class of its own straight under SheetError."""
+"""The refusals: each one a class of its own straight under SheetError, which tells its name."""
 
 
 class SheetError(ValueError):
@@ -6,60 +6,75 @@ class SheetError(ValueError):
 
 
 class BadPlace(SheetError):
-    pass
+    def class_name(self):
+        return "BadPlace"
 
 
 class BadArea(SheetError):
-    pass
+    def class_name(self):
+        return "BadArea"
 
 
 class BadText(SheetError):
-    pass
+    def class_name(self):
+        return "BadText"
 
 
 class BadFormula(SheetError):
-    pass
+    def class_name(self):
+        return "BadFormula"
 
 
 class BadContent(SheetError):
-    pass
+    def class_name(self):
+        return "BadContent"
 
 
 class Full(SheetError):
-    pass
+    def class_name(self):
+        return "Full"
 
 
 class NoCell(SheetError):
-    pass
+    def class_name(self):
+        return "NoCell"
 
 
 class NotWaiting(SheetError):
-    pass
+    def class_name(self):
+        return "NotWaiting"
 
 
 class BadCount(SheetError):
-    pass
+    def class_name(self):
+        return "BadCount"
 
 
 class NoRoom(SheetError):
-    pass
+    def class_name(self):
+        return "NoRoom"
 
 
 class BadTable(SheetError):
-    pass
+    def class_name(self):
+        return "BadTable"
 
 
 class NoTable(SheetError):
-    pass
+    def class_name(self):
+        return "NoTable"
 
 
 class NoColumn(SheetError):
-    pass
+    def class_name(self):
+        return "NoColumn"
 
 
 class NoDeed(SheetError):
-    pass
+    def class_name(self):
+        return "NoDeed"
 
 
 class Clash(SheetError):
-    pass
+    def class_name(self):
+        return "Clash"

@@ -70,13 +70,18 @@ def pinned_area_name(area, pins):
 
 
 def read_formula(text):
+    return made_formula(read_unlooked(text))
+
+
+# Something of it may still be too great: who reads several formulas asks for that behind all of them.
+def read_unlooked(text):
     words = words_of(text)
     check_brackets(words)
     row = WordRow(words)
     formula = read_part(row)
     if row.ahead() != END:
         raise BadText("words behind the formula's end")
-    return made_formula(formula)
+    return formula
 
 
 def words_of(text):

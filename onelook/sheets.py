@@ -16,10 +16,15 @@ def made_sheet(cells):
 
 
 def with_cells(sheet, changes):
+    return with_room(with_changes(sheet, changes))
+
+
+# However many cells are filled by it: of changes in a row only what is there in the end counts.
+def with_changes(sheet, changes):
     turned = dict(sheet)
     for place, content in changes.items():
         put_content(turned, place, content)
-    return with_room(turned)
+    return turned
 
 
 def put_content(sheet, place, content):

@@ -12,8 +12,12 @@ def wave_of(sheet, book, changes):
 
 def wave_between(sheet, book, sheet_now):
     book_now = book_behind(sheet, book, sheet_now)
-    causes = touched(sheet, book, sheet_now, book_now)
-    return (sheet_now, book_now, wave_list(sheet_now, book_now, causes))
+    return (sheet_now, book_now, wave_by(sheet, book, sheet_now, book_now))
+
+
+# Of two sheets whose books are both there already.
+def wave_by(sheet, book, sheet_now, book_now):
+    return wave_list(sheet_now, book_now, touched(sheet, book, sheet_now, book_now))
 
 
 def book_behind(sheet, book, sheet_now):

@@ -150,3 +150,23 @@ def some_changes(chance, sheet, places=SPOTS):
         else:
             changes[place] = some_content(chance, places)
     return changes
+
+
+def some_small_deed(chance, places=SPOTS):
+    kind = chance.randrange(5)
+    if kind == 0:
+        return ("clear", chance.choice(places))
+    if kind == 1:
+        return ("copy", some_area(chance, places)[0], chance.choice(places))
+    return ("put", chance.choice(places), some_content(chance, places))
+
+
+def some_deed(chance, places=SPOTS):
+    """A deed of each kind, one by which something may be refused for want of room too."""
+    kind = chance.randrange(6)
+    if kind == 0:
+        way = chance.choice(["rows in", "rows out", "columns in", "columns out"])
+        return ("shift", way, chance.randrange(5), chance.choice([1, 1, 1, 2, 22]))
+    if kind == 1:
+        return ("bundle", tuple(some_small_deed(chance, places) for _ in range(chance.randrange(5))))
+    return some_small_deed(chance, places)

@@ -47,6 +47,10 @@ class Refusals(unittest.TestCase):
         for name in NAMES:
             self.assertEqual(str(getattr(errors, name)("some words")), "some words")
 
+    def test_each_tells_its_name(self):
+        for name in NAMES:
+            self.assertEqual(getattr(errors, name)("told").class_name(), name)
+
 
 if __name__ == "__main__":
     unittest.main()

@@ -31,6 +31,16 @@ INTERFACE = {
                "put_table": "sheet place table"},
     "groups": {"groups_by": "table head", "sums_by": "table head word other",
                "sums_on": "table sums further head word other", "paired_rows": "table head further other"},
+    "halves": {"tally_of": "worths", "put_together": "one other", "told_by": "word tally", "made_halves": "worths",
+               "cover": "many low high", "stretch_tally": "halves low high", "with_worth": "halves number worth"},
+    "deeds": {"deed_wave": "sheet book deed", "writes": "deed", "takes": "deed", "meet": "one other"},
+    "keeper": {"Keeper": "sheet"},
+    "sheettext": {"sheet_text": "sheet", "read_sheet": "text", "worth_text": "standing"},
+    "desk": {"Desk": "text"},
+}
+METHODS = {
+    ("keeper", "Keeper"): {"do": "deed", "back": "", "again": "", "sheet_now": "", "book_now": "", "deeds": ""},
+    ("desk", "Desk"): {"ask": "row", "text": ""},
 }
 
 
@@ -41,6 +51,13 @@ class Interface(unittest.TestCase):
             for name, arguments in functions.items():
                 told = inspect.signature(getattr(found, name)).parameters
                 self.assertEqual(list(told), arguments.split(), (module, name))
+
+    def test_methods(self):
+        for (module, name), methods in METHODS.items():
+            found = getattr(importlib.import_module("onelook." + module), name)
+            for method, arguments in methods.items():
+                told = inspect.signature(getattr(found, method)).parameters
+                self.assertEqual(list(told), ["self"] + arguments.split(), (name, method))
 
 
 if __name__ == "__main__":

@@ -61,6 +61,8 @@ def bound_names(tree):
             yield node.id
         elif isinstance(node, ast.arg):
             yield node.arg
+        elif isinstance(node, ast.ExceptHandler) and node.name is not None:
+            yield node.name
 
 
 def top_names(tree):
