@@ -26,7 +26,7 @@ for _ in range(5000):
 
 # What has no form of a deed.
 FORMLESS = [
-    (), ("",), ("puts", A1, 5), ("Put", A1, 5), (5, A1, 5), (("put",), A1, 5), ("do", A1), (A1,), ((),),
+    (), ("",), (DEEP,), (DEEP, A1), ("puts", A1, 5), ("Put", A1, 5), (5, A1, 5), (("put",), A1, 5), ("do", A1), (A1,), ((),),
     ("put",), ("put", A1), ("put", A1, 5, 5), ("put", 5, A1), ("put", "a1", 5), ("put", (), 5), ("put", (0,), 5),
     ("put", (0, 0, 0), 5), ("put", (0, "0"), 5), ("put", ((0,), 0), 5), ("put", (0, 0, 0, 0), 5),
     ("clear",), ("clear", A1, A1), ("clear", 0, 0), ("clear", "a1"), ("clear", (0,)), ("clear", (0, 0, 0, 0)),

@@ -190,7 +190,8 @@ class Refusals(unittest.TestCase):
             "copy a1:b2 ", "rows", "rows in", "rows in 1", "rows in 1 ", "rows 1 1", "rows on 1 1", "rows in out 1", "columns in a",
             "columns", "columns a 1", "show", "why", "why ", "formula", "hangs", "back again", "again back", "backs", "aback", "rings a1",
             "back 1", "moved", "refused BadText", "none", "shift rows in 1 1", "bundle", "rows in 1 1 1", "columns in a 1 1", "clear a1 a2",
-            "copy a1:b2 c1 c2", "show a1 a2", "in rows 1 1", "text", "do"], "BadText")
+            "copy a1:b2 c1 c2", "show a1 a2", "in rows 1 1", "text", "do", "lines in a 1", "lines in 1 1", "row in 1 1",
+            "column out a 1", " in a 1"], "BadText")
 
     def test_blanks_too_many_or_too_few(self):
         self.assert_refused(SHEET, [
