@@ -328,7 +328,7 @@ class WholeProgram(unittest.TestCase):
         self.assertIs(right_wave(sheet, book, changes, book_now, wave), True)
 
     def one_step(self, keeper, desk, word):
-        sheet, deeds = keeper.sheet_now(), keeper.deeds()
+        sheet, book, deeds = keeper.sheet_now(), keeper.book_now(), keeper.deeds()
         answer = desk.ask(word)
         try:
             wave = keeper.back() if word == "back" else keeper.again()
@@ -340,6 +340,8 @@ class WholeProgram(unittest.TestCase):
             self.assertEqual((answer, wave), ("moved", []))
         else:
             self.assert_turned(answer, sheet, keeper.sheet_now())
+            changes = {place: keeper.sheet_now().get(place) for place in list(sheet) + list(keeper.sheet_now())}
+            self.assertIs(right_wave(sheet, book, changes, keeper.book_now(), wave), True)
 
     def test_by_chance(self):
         chance = random.Random(181)
